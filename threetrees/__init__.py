@@ -1,0 +1,1 @@
+"""Threetrees: drawings cut into triangles, their arrows, and the three trees in them."""
