@@ -5,12 +5,18 @@ shares no way of reckoning with the program, which knows a drawing by its turns.
 """
 
 import functools
+import itertools
+import re
 
 EXAMPLE_TEXT = "1342 023 0431 0124 032"
 EXAMPLE = ((1, 3, 4, 2), (0, 2, 3), (0, 4, 3, 1), (0, 1, 2, 4), (0, 3, 2))
 BARE_TEXT = "12 02 01"
 BARE = ((1, 2), (0, 2), (0, 1))
 ONE_INNER = ((1, 3, 2), (0, 2, 3), (0, 3, 1), (0, 1, 2))
+EXAMPLE_ARROWS = ((3, 0), (3, 1), (3, 2), (4, 0), (4, 2), (4, 3))
+EXAMPLE_OUTS = ((0, 1, 2), (0, 3, 2))
+ONE_INNER_ARROWS = ((3, 0), (3, 1), (3, 2))
+ONE_INNER_OUTS = ((0, 1, 2),)
 
 # Numbers that are never places, some of them places when counted from the end or cut short.
 NO_PLACES = (-1, -2, -10, 10, 11, 10 ** 59, 10 ** 60 - 1, -(10 ** 60 - 1), 2 ** 32, 2 ** 64)
@@ -124,6 +130,149 @@ def some_by_lands(n):
             lands = lands_flipped(lands, *ties[(3 * k + 7 * step) % len(ties)]) or lands
         some.append(lands)
     return tuple(dict.fromkeys(some))
+
+
+def lands_ringed(lands, land):
+    """Three new places are put into the land, tied to one another and each to two of its corners."""
+    a, b, c = land
+    x = 1 + max(max(land) for land in lands)
+    y, z = x + 1, x + 2
+    new = [(a, b, x), (b, c, y), (c, a, z), (b, y, x), (c, z, y), (a, x, z), (x, y, z)]
+    return replaced(lands, [land], new)
+
+
+# It has two arrows: the ring of the inner places goes round either way.
+RINGED = lands_ringed(frozenset({(0, 1, 2), (0, 2, 1)}), (0, 1, 2))
+# A ring within a ring, a ring beside a ring (neither of two arrows is below the other), and such with one place more.
+NESTED = lands_ringed(RINGED, (3, 4, 5))
+BESIDE = lands_ringed(RINGED, (0, 1, 3))
+RINGS_BY_LANDS = (
+    RINGED, NESTED, BESIDE, lands_put(RINGED, (3, 4, 5)), lands_put(NESTED, (6, 7, 8)), lands_put(NESTED, (3, 6, 8)),
+    lands_put(BESIDE, (3, 4, 5)), lands_ringed(lands_put(RINGED, (3, 4, 5)), (3, 4, 6)),
+)
+
+
+def renamed(lands, inner):
+    """The inner places are called by these numbers, 3 by the first one, and so on."""
+    called = (0, 1, 2, *inner)
+    return frozenset(begun([called[p] for p in land]) for land in lands)
+
+
+def mixed(lands, k):
+    """The inner places numbered in another way, one for each k."""
+    inner = sorted({p for land in lands for p in land if p > 2})
+    mixed_inner = []
+    while inner:
+        mixed_inner.append(inner.pop(k % len(inner)))
+        k = 3 * k + 1
+    return renamed(lands, mixed_inner)
+
+
+@functools.lru_cache(maxsize=None)
+def all_arrows_by_lands(lands):
+    """All arrows of the drawing, rising, found by trying both ways for each tie."""
+    ties = inner_ties_of(lands)
+    inner = {p for land in lands for p in land if p > 2}
+    rows = [()]
+    for k, (p, q) in enumerate(ties):
+        left = [place for tie in ties[k + 1:] for place in tie]
+        rows = [(*row, way) for row in rows for way in ((p, q), (q, p)) if way[0] > 2]
+        rows = [row for row in rows if all(
+            sum(way[0] == place for way in row) <= 3 <= sum(way[0] == place for way in row) + left.count(place)
+            for place in inner.intersection((p, q)))]
+    return tuple(sorted(tuple(sorted(row)) for row in rows))
+
+
+@functools.lru_cache(maxsize=None)
+def rich_by_lands(n):
+    """A few drawings of n places that have many arrows, come to by flips, each of which adds to them."""
+    rich = {}
+    for k, lands in enumerate(some_by_lands(n)[:3]):
+        while lands is not None:
+            best = lands
+            ways = [lands_flipped(best, p, q) for p, q in inner_ties_of(best)]
+            count = {way: len(all_arrows_by_lands(way)) for way in ways if way is not None}
+            most = max(count.values(), default=0)
+            more = [way for way in count if count[way] == most > len(all_arrows_by_lands(best))]
+            lands = min(more, key=sorted, default=None)
+        rich[mixed(best, k)] = None
+    return tuple(rich)
+
+
+@functools.lru_cache(maxsize=None)
+def drawings_by_lands():
+    """Drawings of all counts of places, with few arrows and with many, numbered in several ways."""
+    row = []
+    for n in range(3, 11):
+        few = some_by_lands(n)[::5 if n > 5 else 1]
+        row.extend(mixed(lands, k) if n > 5 else lands for k, lands in enumerate(few))
+        row.extend(rich_by_lands(n))
+    for k, lands in enumerate(RINGS_BY_LANDS):
+        row.extend([lands, mixed(lands, k + 5)])
+    return tuple(dict.fromkeys(row))
+
+
+@functools.lru_cache(maxsize=None)
+def with_arrows():
+    """Pairs of a drawing, by its lands, and arrows of it: of each drawing at most five, spread over all of them."""
+    row = []
+    for lands in drawings_by_lands():
+        arrows = all_arrows_by_lands(lands)
+        row.extend((lands, one) for one in arrows[::1 + len(arrows) // 5])
+    return tuple(row)
+
+
+def letters_round(lands, outs, place):
+    """One letter for each place tied to the inner place, from its out 0 on: A, B, C its outs, a, b, c what comes."""
+    turn = drawing_by(lands)[place]
+    triple = outs[place - 3]
+    letters = ""
+    for q in turned_on(turn, turn.index(triple[0])):
+        letters += "ABC"[triple.index(q)] if q in triple else "abc"[outs[q - 3].index(place)]
+    return letters
+
+
+def model_is_outs(lands, outs):
+    """Of outs whose arrows are arrows: whether they are coloured as they have to be."""
+    to_corners = all(q > 2 or q == colour for triple in outs for colour, q in enumerate(triple))
+    return to_corners and all(re.fullmatch("Ac*Ba*Cb*", letters_round(lands, outs, 3 + k)) for k in range(len(outs)))
+
+
+@functools.lru_cache(maxsize=None)
+def model_outs(lands, arrows):
+    """The outs of arrows, found by trying all ways to colour them round each inner place."""
+    ways = []
+    for place, turn in enumerate(drawing_by(lands)):
+        if place > 2:
+            met = [q for q in turn if (place, q) in arrows]
+            triples = [tuple(turned_on(met, k)) for k in range(3)]
+            ways.append([triple for triple in triples if all(q > 2 or q == k for k, q in enumerate(triple))])
+    found = [outs for outs in itertools.product(*ways) if model_is_outs(lands, outs)]
+    if len(found) != 1:
+        raise AssertionError("the model is broken")
+    return found[0]
+
+
+@functools.lru_cache(maxsize=None)
+def with_outs():
+    """Triples of a drawing, its lands, and outs of it."""
+    return tuple((drawing_by(lands), lands, model_outs(lands, one)) for lands, one in with_arrows())
+
+
+def ways_round(ring):
+    return [(ring[k - 1], ring[k]) for k in range(len(ring))]
+
+
+def lands_reached(lands, first, walls):
+    """All lands to which one comes from the first one over ties that are none of the walls (pairs, either way)."""
+    thirds = third_corners(lands)
+    walls = {*walls, *((q, p) for p, q in walls)}
+    reached, grown = set(), {begun(first)}
+    while grown != reached:
+        reached = grown
+        ways = [way for land in reached for way in ways_round(land) if way not in walls]
+        grown = reached | {begun((q, p, thirds[q, p])) for p, q in ways}
+    return reached
 
 
 def model_rounds(turns):

@@ -2,6 +2,7 @@
 
 import ast
 import builtins
+import functools
 import pathlib
 import re
 import unittest
@@ -29,6 +30,11 @@ NAMES = set("""
     delattr dir eval exec exit gc getattr globals hasattr help id importlib locals methodcaller os quit setattr super
     vars sys chr print
 """.split())
+WALKING = ("list", "tuple", "dict", "sorted", "sum", "any", "all", "enumerate", "zip")
+WALKED = ("zip", "enumerate", "reversed", "range")
+CHANGING = set("append clear extend insert pop remove reverse setdefault update".split())
+KEYWORDS = {"sorted": {"key", "reverse"}, "min": {"key", "default"}, "max": {"key", "default"}, "sum": {"start"},
+            "enumerate": {"start"}, "zip": {"strict"}}
 NODES = (
     ast.With, ast.Match, ast.Delete, ast.Global, ast.Nonlocal, ast.Assert, ast.Yield, ast.YieldFrom, ast.Await,
     ast.AsyncFunctionDef, ast.AsyncFor, ast.AsyncWith, ast.SetComp, ast.DictComp, ast.GeneratorExp, ast.NamedExpr,
@@ -36,6 +42,7 @@ NODES = (
 )
 
 
+@functools.lru_cache(maxsize=None)
 def nodes_of(path):
     return list(ast.walk(ast.parse(path.read_text(encoding="utf-8"))))
 
@@ -64,6 +71,34 @@ def classes_of_all():
 
 def own_methods():
     return {node.name for made in classes_of_all() for node in made.body if isinstance(node, ast.FunctionDef)}
+
+
+def parents_of(path):
+    return {child: node for node in nodes_of(path) for child in ast.iter_child_nodes(node)}
+
+
+def called(node):
+    """The plain name that is called, if there is one."""
+    return node.func.id if isinstance(node, ast.Call) and isinstance(node.func, ast.Name) else None
+
+
+def is_walked_at_once(node, parent):
+    if isinstance(parent, (ast.For, ast.comprehension)):
+        return parent.iter is node
+    if called(parent) in ("min", "max"):
+        return len(parent.args) == 1
+    return called(parent) in WALKING and parent.args[0] is node
+
+
+def walked_by(walk):
+    """The plain names of what a loop walks, itself or through Python's own."""
+    if isinstance(walk, ast.Name):
+        return {walk.id}
+    if called(walk) in WALKED:
+        return set().union(*[walked_by(thing) for thing in walk.args])
+    if isinstance(walk, ast.Call) and isinstance(walk.func, ast.Attribute):
+        return walked_by(walk.func.value)
+    return set()
 
 
 class Files(unittest.TestCase):
@@ -167,6 +202,72 @@ class Files(unittest.TestCase):
                   if isinstance(node, ast.Attribute) and isinstance(node.ctx, ast.Store)}
         self.assertEqual(values & own_methods(), set())
         self.assertEqual(values & METHODS, set())
+
+    def test_no_local_is_called_like_an_import_or_a_class_of_its_file(self):
+        for path in FILES:
+            taken = defined_in(path) | {alias.name for node in top_of(path) if isinstance(node, ast.ImportFrom)
+                                        for alias in node.names}
+            for made in nodes_of(path):
+                if isinstance(made, (ast.FunctionDef, ast.Lambda)):
+                    bound = {node.arg for node in ast.walk(made) if isinstance(node, ast.arg)}
+                    bound |= {node.id for node in ast.walk(made)
+                              if isinstance(node, ast.Name) and isinstance(node.ctx, ast.Store)}
+                    self.assertEqual(bound & taken, set(), (path.name, made.lineno))
+
+    def test_what_is_imported_is_used(self):
+        for path in FILES:
+            used = {node.id for node in nodes_of(path) if isinstance(node, ast.Name)}
+            for node in top_of(path):
+                if isinstance(node, ast.ImportFrom):
+                    self.assertEqual({alias.name for alias in node.names} - used, set(), path.name)
+
+    def test_is_stands_beside_none_true_and_false_alone(self):
+        for path in FILES:
+            for node in nodes_of(path):
+                if isinstance(node, ast.Compare):
+                    for sign, value in zip(node.ops, node.comparators):
+                        if isinstance(sign, (ast.Is, ast.IsNot)):
+                            self.assertIn(getattr(value, "value", 0), (None, True, False), (path.name, node.lineno))
+                            self.assertIsInstance(value, ast.Constant)
+
+    def test_pythons_own_are_called_and_walked_at_once(self):
+        for path in FILES:
+            parents = parents_of(path)
+            for node in nodes_of(path):
+                where = (path.name, getattr(node, "lineno", 0))
+                if called(node) in WALKED or getattr(getattr(node, "func", 0), "attr", 0) in ("items", "keys", "values"):
+                    self.assertTrue(is_walked_at_once(node, parents[node]), where)
+                if called(node) == "set":
+                    self.assertTrue(isinstance(parents[node], (ast.Compare, ast.BinOp))
+                                    or called(parents[node]) in ("sorted", "len"), where)
+                if isinstance(node, ast.Call):
+                    names = {keyword.arg for keyword in node.keywords}
+                    self.assertLessEqual(names, KEYWORDS.get(called(node), set()), where)
+                if isinstance(node, ast.Name) and node.id in OWN_NAMES and node.id[0].islower():
+                    parent = parents[node]
+                    kept = not (isinstance(parent, ast.Call) and parent.func is node)
+                    self.assertFalse(kept and not isinstance(parent, ast.keyword)
+                                     and called(parent) != "isinstance", where)
+
+    def test_what_a_loop_walks_is_not_changed_in_it(self):
+        for path in FILES:
+            for loop in nodes_of(path):
+                if isinstance(loop, ast.For):
+                    walked = walked_by(loop.iter)
+                    for node in [found for part in loop.body for found in ast.walk(part)]:
+                        where = (path.name, getattr(node, "lineno", 0))
+                        if isinstance(node, ast.Attribute) and node.attr in CHANGING:
+                            self.assertNotIn(getattr(node.value, "id", ""), walked, where)
+                        if isinstance(node, ast.Subscript) and isinstance(node.ctx, ast.Store):
+                            self.assertNotIn(getattr(node.value, "id", ""), walked, where)
+
+    def test_texts_and_numbers(self):
+        for path in FILES:
+            for node in nodes_of(path):
+                if isinstance(node, ast.Constant) and isinstance(node.value, str):
+                    self.assertNotIn("%", node.value, (path.name, node.lineno))
+                if isinstance(node, ast.BinOp) and isinstance(node.op, ast.Pow):
+                    self.assertIsInstance(node.right, ast.Constant, (path.name, node.lineno))
 
     def test_classes_hold_methods_alone(self):
         for made in classes_of_all():

@@ -8,9 +8,18 @@ CORNERS = 3
 OUTER_LAND = (0, 2, 1)
 
 
-def begun_with_least(ring):
-    at = ring.index(min(ring))
+def begun_with(ring, first):
+    at = ring.index(first)
     return ring[at:] + ring[:at]
+
+
+def begun_with_least(ring):
+    return begun_with(ring, min(ring))
+
+
+def ways_round(ring):
+    # The index -1 is the last one, so the way from the last place to the first one comes first.
+    return [(ring[k - 1], ring[k]) for k in range(len(ring))]
 
 
 def ahead_in(turn, place):
@@ -41,8 +50,8 @@ def all_rounds(turns):
         for q in turn:
             if (p, q) not in seen:
                 corners = round_from(turns, p, q)
-                for k in range(len(corners)):
-                    seen[(corners[k - 1], corners[k])] = True
+                for way in ways_round(corners):
+                    seen[way] = True
                 rounds.append(corners)
     return rounds
 
@@ -136,3 +145,31 @@ def inner_ties(drawing):
     for p in range(len(drawing)):
         pairs.extend([(p, q) for q in sorted(drawing[p]) if p < q and q >= CORNERS])
     return pairs
+
+
+def land_left_of(drawing, p, q):
+    return begun_with_least((p, q, left_of(drawing, p, q)))
+
+
+def crossings(drawing, first, shut):
+    # Told are ways: at the left of each lies a land that is come to already (at first the land
+    # first), and at its right one to which one comes only so. No tie of the pairs shut is crossed.
+    reached = [first]
+    crossed = []
+    row = ways_round(first)
+    k = 0
+    while k < len(row):
+        p = row[k][0]
+        q = row[k][1]
+        beyond = land_left_of(drawing, q, p)
+        if beyond not in reached and (p, q) not in shut and (q, p) not in shut:
+            reached.append(beyond)
+            crossed.append((p, q))
+            row.extend(ways_round(beyond))
+        k += 1
+    return crossed
+
+
+def lands_from(drawing, first, shut):
+    beyond = [land_left_of(drawing, q, p) for p, q in crossings(drawing, first, shut)]
+    return sorted([first] + beyond)
