@@ -275,6 +275,58 @@ def lands_reached(lands, first, walls):
     return reached
 
 
+def arrows_by_colour(outs, colour):
+    """From where to where the arrows of the colour lead."""
+    return {3 + k: triple[colour] for k, triple in enumerate(outs)}
+
+
+def model_part(lands, outs, place, i):
+    """Cut by all three ways of the place, the inner lands fall into three: that at the outer tie is told."""
+    walls = [(0, 1), (1, 2), (2, 0)]
+    for colour in range(3):
+        here, lead = place, arrows_by_colour(outs, colour)
+        while here > 2:
+            walls.append((here, lead[here]))
+            here = lead[here]
+    thirds = third_corners(lands)
+    a, b = {0: (1, 2), 1: (2, 0), 2: (0, 1)}[i]
+    return sorted(lands_reached(lands, (a, b, thirds[a, b]), walls))
+
+
+@functools.lru_cache(maxsize=None)
+def all_rings(lands):
+    """All rings of the drawing, rising, each told from its least place, either way round."""
+    tied = third_corners(lands)
+    places = range(1 + max(map(max, lands)))
+    return tuple(ring for ring in itertools.permutations(places, 3)
+                 if ring[0] == min(ring) and all(way in tied for way in ways_round(ring)))
+
+
+def model_left_side(lands, ring):
+    """All lands at the left of the ring, the outer one perhaps among them."""
+    a, b, c = ring
+    return lands_reached(lands, (a, b, third_corners(lands)[a, b]), ways_round(ring))
+
+
+def model_inside(lands, ring):
+    """The lands at that side of the ring at which the outer land is not."""
+    at_left = model_left_side(lands, ring)
+    return sorted(lands - at_left if (0, 2, 1) in at_left else at_left)
+
+
+def model_is_left(lands, ring):
+    return (0, 2, 1) not in model_left_side(lands, ring)
+
+
+def model_rings(lands, arrows):
+    return [ring for ring in all_rings(lands) if set(ways_round(ring)) <= set(arrows)]
+
+
+def model_turned(arrows, ring):
+    ways = ways_round(ring)
+    return tuple(sorted(way[::-1] if way in ways else way for way in arrows))
+
+
 def model_rounds(turns):
     """All rings of ways of turns, each as the list of places at which its ways begin."""
     left = {(p, q): (q, turn_of_q[turn_of_q.index(p) - 1])

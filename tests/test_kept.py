@@ -5,10 +5,11 @@ import unittest
 
 from tests import samples
 from tests.samples import BARE, EXAMPLE, EXAMPLE_ARROWS, EXAMPLE_OUTS, ONE_INNER, ONE_INNER_ARROWS, ONE_INNER_OUTS
-from threetrees import arrows, colours, errors, orders, trees
+from threetrees import arrows, colours, errors, fields, heights, numbers, orders, rings, trees
 
 RINGED = samples.drawing_by(samples.RINGED)
-RINGED_ARROWS = samples.all_arrows_by_lands(samples.RINGED)[0]
+RINGED_BOTH = samples.all_arrows_by_lands(samples.RINGED)
+RINGED_ARROWS = RINGED_BOTH[0]
 RINGED_OUTS = samples.model_outs(samples.RINGED, RINGED_ARROWS)
 DRAWN = (
     (BARE, (), ()), (ONE_INNER, ONE_INNER_ARROWS, ONE_INNER_OUTS), (EXAMPLE, EXAMPLE_ARROWS, EXAMPLE_OUTS),
@@ -28,12 +29,27 @@ def asks():
         yield (colours.arrows_of, outs)
         yield (colours.is_outs, drawing, outs)
         yield (colours.is_outs, drawing, ((3, 3, 3), *outs))
+        yield (numbers.numbers, drawing, outs)
+        yield (numbers.points, drawing, outs)
+        yield (fields.field, drawing, outs)
+        yield (rings.rings, drawing, some)
+        for ask in (heights.heights, heights.is_below, heights.greatest_below, heights.least_above):
+            yield (ask, drawing, some, some)
+        for ask in (heights.lowest, heights.highest):
+            yield (ask, drawing)
+        for ring in ((0, 1, 2), (2, 1, 0)):
+            yield (rings.inside, drawing, ring)
+            yield (rings.is_left, drawing, ring)
         for colour in range(3):
             yield (trees.walk, drawing, outs, colour)
             for place in range(len(drawing)):
                 yield (trees.way_to, outs, place, colour)
                 yield (trees.children, drawing, outs, place, colour)
                 yield (trees.part, drawing, outs, place, colour)
+    yield (numbers.side_of, (0, 0), (1, 0), (0, 1))
+    yield (rings.turned, RINGED, RINGED_ARROWS, (3, 4, 5))
+    for ask in (heights.heights, heights.is_below, heights.greatest_below, heights.least_above):
+        yield (ask, RINGED, *RINGED_BOTH)
 
 
 def refused():
@@ -41,6 +57,12 @@ def refused():
     yield (errors.NoArrows, {"why": ("tie", 1)}, arrows.arrows_by, EXAMPLE, [(3, 0), (0, 1)])
     yield (errors.NoArrows, {"why": ("twice", 1)}, arrows.arrows_by, EXAMPLE, [(3, 0), (0, 3)])
     yield (errors.NoArrows, {"why": ("out", 3)}, arrows.arrows_by, EXAMPLE, [[4, 0]])
+    for ring in ((0, 1, 4), (0, 0, 1), (-1, 10 ** 59, 7), (-5, -4, -2)):
+        yield (errors.NoRing, {}, rings.inside, EXAMPLE, ring)
+        yield (errors.NoRing, {}, rings.is_left, EXAMPLE, ring)
+        yield (errors.NoRing, {}, rings.turned, EXAMPLE, EXAMPLE_ARROWS, ring)
+    yield (errors.NoRing, {}, rings.turned, EXAMPLE, EXAMPLE_ARROWS, (0, 3, 4))
+    yield (errors.NoRing, {}, rings.turned, RINGED, RINGED_ARROWS, (3, 5, 4))
 
 
 def lists_in(told):

@@ -10,11 +10,6 @@ from threetrees.drawings import inner_lands
 from threetrees.trees import children, part, walk, way_to
 
 
-def arrows_by_colour(outs, colour):
-    """From where to where the arrows of the colour lead."""
-    return {3 + k: triple[colour] for k, triple in enumerate(outs)}
-
-
 def model_children(drawing, outs, place, colour):
     """Round the place from the place that is told, as the document tells it."""
     if place < 3 and place != colour:
@@ -22,7 +17,7 @@ def model_children(drawing, outs, place, colour):
     first = [1, 2, 0][colour] if place < 3 else outs[place - 3][(1, 2, 0)[colour]]
     turn = drawing[place]
     k = turn.index(first)
-    return [q for q in turn[k:] + turn[:k] if arrows_by_colour(outs, colour).get(q) == place]
+    return [q for q in turn[k:] + turn[:k] if samples.arrows_by_colour(outs, colour).get(q) == place]
 
 
 def model_walk(drawing, outs, colour):
@@ -33,19 +28,6 @@ def model_walk(drawing, outs, colour):
             found.extend(walked_from(child))
         return found
     return walked_from(colour)
-
-
-def model_part(lands, outs, place, i):
-    """Cut by all three ways of the place, the inner lands fall into three: that at the outer tie is told."""
-    walls = [(0, 1), (1, 2), (2, 0)]
-    for colour in range(3):
-        here, lead = place, arrows_by_colour(outs, colour)
-        while here > 2:
-            walls.append((here, lead[here]))
-            here = lead[here]
-    thirds = samples.third_corners(lands)
-    a, b = {0: (1, 2), 1: (2, 0), 2: (0, 1)}[i]
-    return sorted(samples.lands_reached(lands, (a, b, thirds[a, b]), walls))
 
 
 class Interface(unittest.TestCase):
@@ -187,7 +169,7 @@ class Parts(unittest.TestCase):
         for drawing, lands, outs in samples.with_outs():
             for place in range(3, len(drawing)):
                 for i in range(3):
-                    self.assertEqual(part(drawing, outs, place, i), model_part(lands, outs, place, i))
+                    self.assertEqual(part(drawing, outs, place, i), samples.model_part(lands, outs, place, i))
 
     def test_each_inner_land_is_in_just_one_of_three(self):
         for drawing, lands, outs in samples.with_outs():
