@@ -222,6 +222,14 @@ def with_arrows():
     return tuple(row)
 
 
+def pairs_of_arrows():
+    """Drawings with two arrows each, many of them unlike: of each drawing at most some sixty pairs."""
+    for lands in drawings_by_lands():
+        row = all_arrows_by_lands(lands)
+        for one, other in itertools.product(row[::1 + len(row) // 8], repeat=2):
+            yield (drawing_by(lands), lands, one, other)
+
+
 def letters_round(lands, outs, place):
     """One letter for each place tied to the inner place, from its out 0 on: A, B, C its outs, a, b, c what comes."""
     turn = drawing_by(lands)[place]
@@ -325,6 +333,27 @@ def model_rings(lands, arrows):
 def model_turned(arrows, ring):
     ways = ways_round(ring)
     return tuple(sorted(way[::-1] if way in ways else way for way in arrows))
+
+
+@functools.lru_cache(maxsize=None)
+def model_rows(m):
+    """All rows of steps with m u, rising, found by trying where the u stand."""
+    rows = []
+    for ups in itertools.combinations(range(2 * m), m):
+        if all(2 * k >= up for k, up in enumerate(ups)):
+            rows.append("".join("u" if k in ups else "d" for k in range(2 * m)))
+    return tuple(sorted(rows))
+
+
+def model_is_pair(first, second):
+    """Of two rows of one length: the second row never lies below the first one, reckoned by their heights."""
+    heights = [list(itertools.accumulate(1 if sign == "u" else -1 for sign in row)) for row in (first, second)]
+    return all(one <= other for one, other in zip(*heights))
+
+
+@functools.lru_cache(maxsize=None)
+def model_pairs(m):
+    return tuple(pair for pair in itertools.product(model_rows(m), repeat=2) if model_is_pair(*pair))
 
 
 def model_rounds(turns):

@@ -101,6 +101,18 @@ def walked_by(walk):
     return set()
 
 
+def is_only_read(node, parent):
+    if isinstance(parent, ast.Subscript):
+        return parent.value is node and isinstance(parent.ctx, ast.Load)
+    if isinstance(parent, ast.Compare):
+        return isinstance(parent.ops[0], (ast.In, ast.NotIn, ast.Eq, ast.NotEq))
+    if isinstance(parent, ast.Attribute):
+        return parent.attr in ("get", "items", "keys", "values", "index", "count")
+    if isinstance(parent, (ast.For, ast.comprehension)):
+        return parent.iter is node
+    return called(parent) in ("len", "list", "dict", "tuple", "sorted")
+
+
 class Files(unittest.TestCase):
     def test_nothing_but_plain_files_lies_there(self):
         self.assertTrue((PACKAGE / "__init__.py").is_file())
@@ -189,6 +201,19 @@ class Files(unittest.TestCase):
                 else:
                     self.assertIsInstance(node.value.value, str)
             self.assertEqual(len(bound), len(set(bound)))
+
+    def test_lists_and_dicts_of_the_top_are_only_read(self):
+        for path in FILES:
+            tables = {node.targets[0].id for node in top_of(path)
+                      if isinstance(node, ast.Assign) and isinstance(node.value, (ast.List, ast.Dict))}
+            parents = parents_of(path)
+            for node in nodes_of(path):
+                if isinstance(node, ast.Name) and node.id in tables and isinstance(node.ctx, ast.Load):
+                    self.assertTrue(is_only_read(node, parents[node]), (path.name, node.lineno))
+            for node in top_of(path):
+                if isinstance(node, ast.Assign):
+                    within = [found for found in ast.walk(node.value) if isinstance(found, (ast.List, ast.Dict))]
+                    self.assertLessEqual(len(within), 1, (path.name, node.lineno))
 
     def test_methods_that_are_called(self):
         allowed = METHODS | own_methods()

@@ -61,14 +61,6 @@ def model_least_above(lands, one, other):
     return model_end(lands, lambda end: end in above and all(model_is_below(lands, end, each) for each in above))
 
 
-def pairs_of_arrows():
-    """Drawings with two arrows each, many of them unlike: of each drawing at most some sixty pairs."""
-    for lands in samples.drawings_by_lands():
-        row = samples.all_arrows_by_lands(lands)
-        for one, other in itertools.product(row[::1 + len(row) // 8], repeat=2):
-            yield (samples.drawing_by(lands), lands, one, other)
-
-
 class Interface(unittest.TestCase):
     def test_names_and_arguments(self):
         for name in ("heights", "is_below", "greatest_below", "least_above"):
@@ -124,7 +116,7 @@ class Heights(unittest.TestCase):
 
     def test_all_two_arrows(self):
         found = set()
-        for drawing, lands, one, other in pairs_of_arrows():
+        for drawing, lands, one, other in samples.pairs_of_arrows():
             told = heights(drawing, one, other)
             self.assertEqual(told, model_heights(lands, one, other))
             self.assertEqual(len(told), 2 * len(drawing) - 5)
@@ -132,7 +124,7 @@ class Heights(unittest.TestCase):
         self.assertLessEqual({-2, -1, 0, 1, 2}, found)
 
     def test_over_each_tie(self):
-        for drawing, lands, one, other in pairs_of_arrows():
+        for drawing, lands, one, other in samples.pairs_of_arrows():
             known = {(0, 2, 1): 0, **dict(zip(samples.inner_of(lands), heights(drawing, one, other)))}
             thirds = samples.third_corners(lands)
             for p, q in samples.ties_of(lands):
@@ -167,7 +159,7 @@ class Below(unittest.TestCase):
 
     def test_all_two_arrows(self):
         found = {}
-        for drawing, lands, one, other in pairs_of_arrows():
+        for drawing, lands, one, other in samples.pairs_of_arrows():
             told = is_below(drawing, one, other)
             self.assertIs(told, model_is_below(lands, one, other))
             kind = (told, is_below(drawing, other, one))
@@ -224,7 +216,7 @@ class Between(unittest.TestCase):
             self.assertEqual(least_above(drawing, one, one), one)
 
     def test_of_such_as_lie_above_one_another(self):
-        for drawing, lands, one, other in pairs_of_arrows():
+        for drawing, lands, one, other in samples.pairs_of_arrows():
             if model_is_below(lands, one, other):
                 self.assertEqual(greatest_below(drawing, one, other), one)
                 self.assertEqual(greatest_below(drawing, other, one), one)
@@ -241,7 +233,7 @@ class Between(unittest.TestCase):
 
     def test_of_such_as_do_not(self):
         tried = 0
-        for drawing, lands, one, other in pairs_of_arrows():
+        for drawing, lands, one, other in samples.pairs_of_arrows():
             if one < other and not model_is_below(lands, one, other) and not model_is_below(lands, other, one):
                 below, above = greatest_below(drawing, one, other), least_above(drawing, one, other)
                 self.assertEqual(below, model_greatest_below(lands, one, other))
@@ -252,7 +244,7 @@ class Between(unittest.TestCase):
         self.assertGreater(tried, 15)
 
     def test_heights_to_the_lowest_are_the_lesser_and_the_greater(self):
-        for drawing, lands, one, other in pairs_of_arrows():
+        for drawing, lands, one, other in samples.pairs_of_arrows():
             low = model_lowest(lands)
             to_low = list(zip(model_heights(lands, one, low), model_heights(lands, other, low)))
             below, above = greatest_below(drawing, one, other), least_above(drawing, one, other)

@@ -5,16 +5,24 @@ import unittest
 
 from tests import samples
 from tests.samples import BARE, EXAMPLE, EXAMPLE_ARROWS, EXAMPLE_OUTS, ONE_INNER, ONE_INNER_ARROWS, ONE_INNER_OUTS
-from threetrees import arrows, colours, errors, fields, heights, numbers, orders, rings, trees
+from threetrees import arrows, colours, counts, desk, errors, fields, heights, numbers, orders, rings, steps, texts
+from threetrees import trees, ways
 
 RINGED = samples.drawing_by(samples.RINGED)
 RINGED_BOTH = samples.all_arrows_by_lands(samples.RINGED)
 RINGED_ARROWS = RINGED_BOTH[0]
 RINGED_OUTS = samples.model_outs(samples.RINGED, RINGED_ARROWS)
+DESK_LINES = ("high", "show", "outs", "rings", "rows", "numbers", "field", "all", "low", "undo", "undo", "show", "undo")
 DRAWN = (
     (BARE, (), ()), (ONE_INNER, ONE_INNER_ARROWS, ONE_INNER_OUTS), (EXAMPLE, EXAMPLE_ARROWS, EXAMPLE_OUTS),
     (RINGED, RINGED_ARROWS, RINGED_OUTS),
 )
+
+
+def told_by_a_desk(*lines):
+    """All that a new desk answers to the lines, and what lies there behind them."""
+    one = desk.Desk()
+    return ([one.tell(line) for line in lines], one.drawing(), one.arrows(), one.steps())
 
 
 def asks():
@@ -37,6 +45,11 @@ def asks():
             yield (ask, drawing, some, some)
         for ask in (heights.lowest, heights.highest):
             yield (ask, drawing)
+        yield (ways.way_between, drawing, some, some)
+        yield (ways.all_arrows, drawing, 400)
+        yield (steps.rows_of, drawing, outs)
+        yield (steps.of_rows, *steps.rows_of(drawing, outs))
+        yield (told_by_a_desk, "draw " + texts.drawing_text(drawing), *DESK_LINES)
         for ring in ((0, 1, 2), (2, 1, 0)):
             yield (rings.inside, drawing, ring)
             yield (rings.is_left, drawing, ring)
@@ -48,8 +61,11 @@ def asks():
                 yield (trees.part, drawing, outs, place, colour)
     yield (numbers.side_of, (0, 0), (1, 0), (0, 1))
     yield (rings.turned, RINGED, RINGED_ARROWS, (3, 4, 5))
-    for ask in (heights.heights, heights.is_below, heights.greatest_below, heights.least_above):
+    for ask in (heights.heights, heights.is_below, heights.greatest_below, heights.least_above, ways.way_between):
         yield (ask, RINGED, *RINGED_BOTH)
+    for m in range(5):
+        yield (counts.many_pairs, m)
+        yield (counts.all_pairs, m)
 
 
 def refused():
@@ -63,6 +79,22 @@ def refused():
         yield (errors.NoRing, {}, rings.turned, EXAMPLE, EXAMPLE_ARROWS, ring)
     yield (errors.NoRing, {}, rings.turned, EXAMPLE, EXAMPLE_ARROWS, (0, 3, 4))
     yield (errors.NoRing, {}, rings.turned, RINGED, RINGED_ARROWS, (3, 5, 4))
+    yield (errors.TooMany, {}, ways.all_arrows, RINGED, 1)
+    yield (errors.NoRows, {"word": "first", "at": 2}, steps.of_rows, "udx", "x")
+    yield (errors.NoRows, {"word": "second", "at": 0}, steps.of_rows, "ud", "du")
+    yield (errors.NoRows, {"word": "length", "at": 0}, steps.of_rows, "ud", "")
+    yield (errors.NoRows, {"word": "over", "at": 1}, steps.of_rows, "uudd", "udud")
+    yield (errors.TooMany, {}, counts.many_pairs, 101)
+    yield (errors.TooMany, {}, counts.all_pairs, 5)
+    yield (errors.NoLine, {}, told_by_a_desk, "undo 1")
+    yield (errors.NothingDone, {}, told_by_a_desk, "low", "undo", "undo")
+    yield (errors.NoText, {"at": 1}, told_by_a_desk, "draw 12 x")
+    yield (errors.NoDrawing, {"word": "count", "at": 1}, told_by_a_desk, "draw 12")
+    yield (errors.NoLand, {}, told_by_a_desk, "put 0 2 1")
+    yield (errors.NoPlace, {}, told_by_a_desk, "take 0")
+    yield (errors.NoTie, {}, told_by_a_desk, "flip 0 1")
+    yield (errors.Tied, {"pair": (1, 2)}, told_by_a_desk, "put 0 1 2", "flip 3 0")
+    yield (errors.NoRing, {}, told_by_a_desk, "ring 0 1 2")
 
 
 def lists_in(told):

@@ -22,22 +22,25 @@ def is_below(drawing, one, other):
     return min(heights(drawing, other, one)) >= 0
 
 
-def end_of_turning(drawing, left):
-    # Whichever ring is turned, one comes nearer to the end, so any first one will do.
-    arrows = taken_off(drawing)[1]
+def turned_to_end(drawing, arrows, left):
+    # Told are the rings that are turned and the arrows at the end. Whichever ring is turned, one
+    # comes nearer to the end, so any first one will do.
+    row = []
+    here = arrows
     while True:
-        such = [ring for ring in rings(drawing, arrows) if is_left(drawing, ring) == left]
+        such = [ring for ring in rings(drawing, here) if is_left(drawing, ring) == left]
         if len(such) == 0:
-            return arrows
-        arrows = turned(drawing, arrows, such[0])
+            return (row, here)
+        row.append(such[0])
+        here = turned(drawing, here, such[0])
 
 
 def lowest(drawing):
-    return end_of_turning(drawing, True)
+    return turned_to_end(drawing, taken_off(drawing)[1], True)[1]
 
 
 def highest(drawing):
-    return end_of_turning(drawing, False)
+    return turned_to_end(drawing, taken_off(drawing)[1], False)[1]
 
 
 def led_by(drawing, arrows, height_row):

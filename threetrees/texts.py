@@ -7,12 +7,12 @@ from threetrees.errors import NoText
 FIGURES = "0123456789"
 
 
-def turn_text(turn):
-    return "".join([str(q) for q in turn])
+def figures_text(places):
+    return "".join([str(place) for place in places])
 
 
 def drawing_text(drawing):
-    return " ".join([turn_text(turn) for turn in drawing])
+    return " ".join([figures_text(turn) for turn in drawing])
 
 
 def is_turn_word(word):
